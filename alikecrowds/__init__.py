@@ -1,0 +1,1 @@
+"""Alikecrowds: what a published table still tells of anybody."""
