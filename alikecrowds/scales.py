@@ -18,6 +18,11 @@ def is_integer(value):
     return isinstance(value, int) and not isinstance(value, bool)
 
 
+def is_number_below(many, value):
+    """Whether any value is an integer from 0 on, less than many."""
+    return is_integer(value) and 0 <= value < many
+
+
 def is_name(value):
     """Whether any value is a name, as those of columns, kinds, persons, and as secrets."""
     if not isinstance(value, str) or not 1 <= len(value) <= MOST_SIGNS:

@@ -2,7 +2,7 @@
 
 from alikecrowds.errors import BadMark, BadMarks, BadRows, BadTable, BadValue, BadValues, NoRow
 from alikecrowds.registers import person_number, scale_of
-from alikecrowds.scales import is_integer, is_name, is_tuple_of, marks_stand
+from alikecrowds.scales import is_name, is_number_below, is_tuple_of, marks_stand
 
 MOST_ROWS = 60
 
@@ -118,7 +118,7 @@ def least_mark(census, column, values):
 
 def check_row(table, row):
     """Raises NoRow unless row is the number of a row."""
-    if not is_integer(row) or not 0 <= row < len(table):
+    if not is_number_below(len(table), row):
         raise NoRow(row)
 
 

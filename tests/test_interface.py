@@ -3,6 +3,7 @@
 import ast
 import importlib
 import inspect
+import itertools
 import os
 import unittest
 
@@ -23,6 +24,20 @@ LISTED = {
         "least_mark": "census column values", "fits": "table name row",
         "fitting_rows": "table name", "fitting_persons": "table row", "fits_many": "table",
         "equal_marks": "table", "marked": "table row marks",
+    },
+    "worlds": {
+        "is_world": "table value", "persons_of": "table lot", "a_world": "table", "shows_world": "table value",
+        "possible": "table name row", "shows_possible": "table name row value", "may_be_out": "table name",
+        "shows_out": "table name value", "all_possible": "table", "all_out": "table", "sure_rows": "table",
+    },
+    "hiding": {
+        "rows_of": "table name", "owners_of": "table row", "secrets_of": "table name", "hidden_by": "table name",
+        "parted_by": "table name", "least_hidden": "table", "least_parted": "table", "exposed": "table",
+        "hiding": "table many", "shows_hiding": "table many value", "crowds": "table", "blocks": "table",
+    },
+    "counts": {
+        "worlds_many": "table", "worlds_with": "table name row", "nth_world": "table number",
+        "number_of": "table world", "share": "table name secret", "shares": "table name", "surest": "table",
     },
 }
 
@@ -51,20 +66,26 @@ class Interface(unittest.TestCase):
             "text": "column age line\nperson ann 30", "columns": (("age", "line"),), "kinds": (), "persons": (),
             "census": sample_register(), "name": "ann", "column": "home", "kind": "pole", "one": "pole",
             "other": "north", "rows": (), "value": "pole", "mark": "north", "values": ("pole",), "row": 0,
-            "table": sample_table(), "marks": ((0, 1), "all"),
+            "table": sample_table(), "marks": ((0, 1), "all"), "lot": (1, 2), "many": 2, "number": 1,
+            "world": (1, 0, 2), "secret": "flu",
+        }
+        shown = ("hidden", tuple((name, ((row, (1, 0, 2)),)) for name, row in (("ann", 1), ("bob", 0), ("cid", 2))))
+        special = {
+            "Table": {"text": "row 1..2 all flu"}, "column_number": {"name": "home"},
+            "lowest_above": {"kinds": ("pole",)}, "possible": {"row": 1}, "worlds_with": {"row": 2},
+            "is_world": {"value": (1, 0, 2)}, "shows_world": {"value": ("world", (1, 0, 2))},
+            "shows_possible": {"value": ("can", (1, 0, 2)), "row": 1},
+            "shows_out": {"value": ("cannot", (0, 1, 2))}, "shows_hiding": {"value": shown, "many": 1},
         }
         for file, names in LISTED.items():
             module = importlib.import_module("alikecrowds." + file)
             for name, parameters in names.items():
-                named = {word: given[word] for word in parameters.split()}
-                if name == "Table":
-                    named["text"] = "row 1..2 all flu"
-                elif name == "column_number":
-                    named["name"] = "home"
-                elif name == "lowest_above":
-                    named["kinds"] = ("pole",)
-                by_name = getattr(module, name)(**named)
-                self.assertEqual(by_name, getattr(module, name)(*named.values()), name)
+                call = getattr(module, name)
+                named = [(word, special.get(name, {}).get(word, given[word])) for word in parameters.split()]
+                wanted = call(*[value for _, value in named])
+                self.assertTrue(wanted is True or not name.startswith("shows"), name)
+                for turned in itertools.permutations(named):
+                    self.assertEqual(call(**dict(turned)), wanted, name)
 
     def test_methods_stand_in_the_classes_themselves(self):
         for thing in (sample_register(), sample_table()):
