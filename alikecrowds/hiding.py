@@ -2,9 +2,9 @@
 
 from alikecrowds.errors import BadNumber
 from alikecrowds.registers import person_number
-from alikecrowds.scales import is_integer, is_number_below, is_tuple_of
+from alikecrowds.scales import is_ascending, is_integer, is_number_below, is_tuple_of
 from alikecrowds.tables import check_row
-from alikecrowds.worlds import any_pairing, is_ascending, is_world, pairing_of, shows_impossible
+from alikecrowds.worlds import any_pairing, is_world, pairing_of, shows_impossible
 
 MOST_MANY = 60
 

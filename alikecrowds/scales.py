@@ -23,6 +23,18 @@ def is_number_below(many, value):
     return is_integer(value) and 0 <= value < many
 
 
+def is_ascending(parts):
+    """Whether each of these parts is greater than the one before it."""
+    return all([one < other for one, other in zip(parts, parts[1:])])
+
+
+def is_lot_below(many, value):
+    """Whether any value is an ascending tuple of numbers less than many, none or more."""
+    if not isinstance(value, tuple) or not all([is_number_below(many, number) for number in value]):
+        return False
+    return is_ascending(value)
+
+
 def is_name(value):
     """Whether any value is a name, as those of columns, kinds, persons, and as secrets."""
     if not isinstance(value, str) or not 1 <= len(value) <= MOST_SIGNS:
@@ -59,12 +71,17 @@ def marks_stand(scales, marks):
     return all([scale.is_mark(mark) for scale, mark in zip(scales.values(), marks)])
 
 
+def is_line_value(value):
+    """Whether any value is a value of a line."""
+    return is_integer(value) and -FARTHEST <= value <= FARTHEST
+
+
 class Line:
     """The scale of a line: its values are integers, its marks pairs (low, high)."""
 
     def is_value(self, value):
         """Whether any value is a value of the line."""
-        return is_integer(value) and -FARTHEST <= value <= FARTHEST
+        return is_line_value(value)
 
     def is_mark(self, mark):
         """Whether any value is a mark of the line."""
@@ -108,6 +125,11 @@ class Line:
     def least(self, values):
         """The finest mark that covers these values, one at least."""
         return (min(values), max(values))
+
+    def loss(self, mark):
+        """How much is lost of whom only this mark is told."""
+        low, high = mark
+        return high - low
 
 
 class Tree:
@@ -182,3 +204,7 @@ class Tree:
         for kind in sorted(set(values)):
             shared = [up for up in shared if up in self.ups[kind]]
         return shared[0]
+
+    def loss(self, mark):
+        """How much is lost of whom only this mark is told."""
+        return self.losses[mark]

@@ -6,7 +6,7 @@ or fewer, shows that it cannot.
 
 from alikecrowds.errors import BadLot, NoWorld
 from alikecrowds.registers import person_number
-from alikecrowds.scales import is_number_below, is_tuple_of
+from alikecrowds.scales import is_lot_below, is_number_below, is_tuple_of
 from alikecrowds.tables import check_row, fitting_persons, row_fits
 
 
@@ -135,11 +135,6 @@ def pairing_of(table):
     return pairing
 
 
-def is_ascending(numbers):
-    """Whether each of these numbers is greater than the one before it."""
-    return all([one < other for one, other in zip(numbers, numbers[1:])])
-
-
 def is_world(table, value):
     """Whether any value is a world."""
     persons = len(table.census)
@@ -152,9 +147,7 @@ def is_world(table, value):
 
 def is_lot(table, value):
     """Whether any value is a lot."""
-    if not isinstance(value, tuple) or len(value) == 0:
-        return False
-    return all([is_number_below(len(table), row) for row in value]) and is_ascending(value)
+    return is_lot_below(len(table), value) and len(value) > 0
 
 
 def persons_in(table, lot):

@@ -175,6 +175,30 @@ class DrawnCase(CrowdCase):
         self.assertIn(repr(caught.exception.value), [repr(lot) for lot in slow.torn])
 
 
+def partings(things, least=1):
+    """All ways to part things into crowds of at least so many, each a list of tuples."""
+    if not things:
+        return [[]]
+    found = []
+    first, others = things[0], things[1:]
+    for many in range(max(0, least - 1), len(others) + 1):
+        for more in itertools.combinations(others, many):
+            rest = [thing for thing in others if thing not in more]
+            found += [[(first,) + more] + parting for parting in partings(rest, least)]
+    return found
+
+
+def is_strict(value, shape):
+    """Whether the value has this shape: a class, [shape] for a tuple of any length, or a tuple of shapes."""
+    if isinstance(shape, type):
+        return type(value) is shape
+    if type(value) is not tuple:
+        return False
+    if isinstance(shape, list):
+        return all(is_strict(part, shape[0]) for part in value)
+    return len(value) == len(shape) and all(is_strict(part, its) for part, its in zip(value, shape))
+
+
 def near(value):
     """Values near to this one: a part more or less, another word, another kind of value, at any depth."""
     found = [None, [], (value,), [value], {"a": value}, True, False]

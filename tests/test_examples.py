@@ -6,7 +6,7 @@ import unittest
 
 HERE = os.path.dirname(os.path.abspath(__file__))
 DOCUMENT = os.path.join(HERE, "..", "..", "shared", "DOC.md")
-EXAMPLES = ["point_4.txt", "point_5.txt", "point_6.txt", "point_7.txt", "point_8.txt"]
+EXAMPLES = [f"point_{number}.txt" for number in range(4, 12)]
 
 
 def example_in(name):
