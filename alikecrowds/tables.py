@@ -39,10 +39,15 @@ def rows_in(census, text):
 def row_in(census, line):
     """The row that a line writes: None if it has not its form."""
     words = line.split(" ")
-    if words[0] != "row" or len(words) != len(census.scales) + 2:
+    marks = marks_in(census, words[1:-1])
+    return None if words[0] != "row" or marks is None else (marks, words[-1])
+
+
+def marks_in(census, words):
+    """The marks that these words write: None if they are not as many as the columns."""
+    if len(words) != len(census.scales):
         return None
-    marks = [scale.mark_in(word) for scale, word in zip(census.scales.values(), words[1:-1])]
-    return (tuple(marks), words[-1])
+    return tuple([scale.mark_in(word) for scale, word in zip(census.scales.values(), words)])
 
 
 def most_rows(census):

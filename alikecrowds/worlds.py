@@ -74,6 +74,14 @@ class Pairing:
             self.chains[start] = self._chain_from(start)
         return self.chains[start]
 
+    def widened(self, fitting):
+        """The pairing for rows that fit these persons, those of fitting among them: the owners stay."""
+        wider = Pairing([])
+        wider.fitting = fitting
+        wider.owners = self.owners
+        wider.seats = self.seats
+        return wider
+
     def world(self):
         """Any world."""
         return world_of(self.owners)

@@ -6,7 +6,7 @@ import unittest
 
 HERE = os.path.dirname(os.path.abspath(__file__))
 DOCUMENT = os.path.join(HERE, "..", "..", "shared", "DOC.md")
-EXAMPLES = [f"point_{number}.txt" for number in range(4, 12)]
+EXAMPLES = [f"point_{number}.txt" for number in range(4, 16)]
 
 
 def example_in(name):

@@ -7,6 +7,8 @@ import itertools
 import os
 import unittest
 
+from alikecrowds.desk import Desk, desk_text
+from alikecrowds.tables import Table
 from samples import sample_register, sample_table
 
 PACKAGE = os.path.join(os.path.dirname(os.path.abspath(__file__)), "..", "alikecrowds")
@@ -61,7 +63,35 @@ LISTED = {
         "is_made": "table crowds", "widened": "table rows marks", "table_loss": "table",
         "least_crowds": "census least", "shows_least_crowds": "census least value",
     },
+    "telling": {
+        "is_told": "table value", "keeps": "table told world", "world_told": "table told",
+        "shows_world_told": "table told value", "possible_told": "table told name row",
+        "shows_possible_told": "table told name row value", "rows_told": "table told name",
+        "secrets_told": "table told name", "sure_told": "table told", "given_away": "table truth names",
+        "least_telling": "table truth name", "shows_least_telling": "table truth name value",
+    },
+    "joined": {
+        "joint_many": "table other", "a_joint": "table other", "shows_joint": "table other value",
+        "joint_secrets": "table other name", "joint_can": "table other name secret",
+        "shows_joint_can": "table other name secret value", "newly_known": "table other",
+        "columns_alone": "census names", "table_alone": "table names",
+    },
+    "edits": {
+        "with_mark": "table row column mark", "without_row": "table row", "with_row": "table marks secret",
+        "with_person": "table name values", "without_person": "table name", "pairs": "table", "idle_pairs": "table",
+        "changed": "one other", "is_coarser": "one other", "least_widening": "table name many row column",
+        "shows_widening": "table name many row column value", "least_rows": "table name many",
+        "shows_rows": "table name many value",
+    },
+    "desk": {"Desk": "", "desk_text": "desk", "read_desk": "text"},
 }
+METHODS = {
+    "lead": "deed", "thing_kind": "name", "thing_of": "name", "register_of": "name", "told_of": "name",
+    "secrets_of": "name person", "sure_of": "name", "undo": "", "redo": "", "note": "word", "notes": "", "back": "word",
+    "all_deeds": "",
+}
+WIDE = sample_table()
+LOOSE = Table(sample_register(), "row 31..40 all cold")
 # What calls by names are given, where a function needs something else than the others.
 SHOWN = ("hidden", tuple((name, ((row, (1, 0, 2)),)) for name, row in (("ann", 1), ("bob", 0), ("cid", 2))))
 LINE = {"values": (7, 1, 2, 9, 8, 2), "size": 3}
@@ -83,7 +113,27 @@ SPECIAL = {
     "crowd_marks": {"persons": (0, 2)}, "are_crowds": {"value": ((0, 2), (1,))},
     "marked_table": {"marks": MARKS}, "widened": {"rows": (0, 2)},
     "shows_least_crowds": {"value": (153, ((0, 1, 2),))},
+    "is_told": {"value": (("ann", "flu"),)}, "shows_world_told": {"value": ("world", (1, 0, 2))},
+    "possible_told": {"row": 1}, "shows_possible_told": {"value": ("can", (1, 0, 2)), "row": 1},
+    "shows_least_telling": {"value": ("cid",)},
+    "columns_alone": {"names": ("home",)}, "table_alone": {"names": ("age",)},
+    "with_person": {"name": "zoe", "values": (1, "all")}, "changed": {"one": WIDE, "other": WIDE},
+    "is_coarser": {"one": WIDE, "other": WIDE}, "shows_widening": {"value": (0, "north"), "many": 1},
+    "with_row": {"table": LOOSE}, "without_person": {"table": LOOSE}, "shows_rows": {"value": (0, ())},
+    "read_desk": {"text": "stand 0\nnote a 0"},
 }
+for NAME in LISTED["joined"]:
+    SPECIAL.setdefault(NAME, {}).update({"other": WIDE, "value": ((1, 2, 0), (1, 2, 0))})
+
+
+def sample_desk():
+    """A desk with a register, a table, and something told."""
+    desk = Desk()
+    desk.lead(("register", "town", "column age line\nperson ann 30\nperson bob 34"))
+    desk.lead(("table", "flu", "town", "row 30..34 yes\nrow 30..34 no"))
+    desk.lead(("out", "flu", "ann", "yes"))
+    desk.note("begin")
+    return desk
 
 
 def given():
@@ -95,7 +145,8 @@ def given():
         "table": sample_table(), "marks": ((0, 1), "all"), "lot": (1, 2), "many": 2, "number": 1,
         "world": (1, 0, 2), "secret": "flu", "begin": 0, "end": 2, "shown": (2, 8), "loss": 3, "k": 2,
         "counts": (0, 1, 1, 1), "lifts": (0, 1, 1, 1), "secrets": ("flu", "cold", "flu"),
-        "crowds": ((0, 2), (1,)), "sequence": (2, 0, 1), "least": 2,
+        "crowds": ((0, 2), (1,)), "sequence": (2, 0, 1), "least": 2, "told": (("ann", "cold"),),
+        "truth": (1, 0, 2), "names": ("ann", "bob"), "desk": sample_desk(),
     }
 
 
@@ -118,21 +169,66 @@ class Interface(unittest.TestCase):
                 self.assertEqual(thing.__module__, "alikecrowds." + file)
                 self.assertEqual(list(inspect.signature(thing).parameters), parameters.split(), name)
 
-    def test_arguments_are_passed_by_name(self):
+    def calls(self):
+        """(name, call, pairs of a parameter and a value) for each name of the interface, with new objects."""
+        found = []
         for file, names in LISTED.items():
             module = importlib.import_module("alikecrowds." + file)
             for name, parameters in names.items():
-                call = getattr(module, name)
                 named = [(word, {**given(), **SPECIAL.get(name, {})}[word]) for word in parameters.split()]
-                wanted = call(*[value for _, value in named])
-                self.assertTrue(wanted is True or not name.startswith("shows"), name)
-                for turned in itertools.permutations(named):
-                    self.assertEqual(call(**dict(turned)), wanted, name)
+                found.append((name, getattr(module, name), named))
+        return found
+
+    def plain(self, found):
+        """What can be compared: the journal of a desk."""
+        return desk_text(found) if isinstance(found, Desk) else found
+
+    def test_arguments_are_passed_by_name(self):
+        for name, call, named in self.calls():
+            wanted = self.plain(call(*[value for _, value in named]))
+            self.assertTrue(wanted is True or not name.startswith("shows"), name)
+            for turned in itertools.permutations(named):
+                self.assertEqual(self.plain(call(**dict(turned))), wanted, name)
+
+    def test_equal_calls_with_others_in_between(self):
+        wanted = {name: self.plain(call(**dict(named))) for name, call, named in self.calls()}
+        kept = self.calls()
+        for name, call, named in self.calls()[::-1] + kept + kept[::-1]:
+            self.assertEqual(self.plain(call(**dict(named))), wanted[name], name)
+
+    def test_methods_of_desks(self):
+        parts = {"deed": ("drop", "flu"), "name": "flu", "person": "bob", "word": "begin"}
+        for name, parameters in METHODS.items():
+            self.assertIn(name, vars(Desk))
+            call = getattr(Desk, name)
+            self.assertEqual(list(inspect.signature(call).parameters), ["self"] + parameters.split(), name)
+            desks = [sample_desk() for _ in range(2)]
+            for desk in desks:
+                desk.lead(("hush", "flu", "ann"))
+                if name == "redo":
+                    desk.undo()
+            named = [(word, parts[word]) for word in parameters.split()]
+            wanted = getattr(desks[0], name)(*[value for _, value in named])
+            for turned in itertools.permutations(named):
+                desk = sample_desk() if name in ("lead", "redo", "undo") else desks[1]
+                if name == "redo":
+                    desk.undo()
+                self.assertEqual(getattr(desk, name)(**dict(turned)), wanted)
+            if name in ("lead", "undo", "redo", "note", "back"):
+                self.assertIsNone(wanted)
 
     def test_methods_stand_in_the_classes_themselves(self):
         for thing in (sample_register(), sample_table()):
             self.assertIn("__eq__", vars(type(thing)))
             self.assertIn("__len__", vars(type(thing)))
+        for name in ("names", "__len__", "__contains__"):
+            self.assertIn(name, vars(Desk))
+
+    def test_objects_are_equal_to_nothing_else(self):
+        for thing in (sample_register(), sample_table()):
+            for other in (thing.text, None, (thing,), 0, sample_desk()):
+                self.assertFalse(thing == other)
+                self.assertTrue(thing != other)
 
 
 class Form(unittest.TestCase):
