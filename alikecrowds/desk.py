@@ -311,7 +311,7 @@ def read_desk(text):
     noted = notes_in(lines)
     desk = desk_with(lines, 1 + len(noted))
     deeds = desk.all_deeds()[0]
-    for at, number in enumerate([standing] + [number for _, number in noted], start=1):
+    for at, number in enumerate([standing] + [many for _, many in noted], start=1):
         if number > len(deeds):
             raise BadDesk(at)
     for number, word in sorted([(number, word) for word, number in noted]):
